@@ -1,0 +1,53 @@
+"""What several files need: numbers, wholes told from the inside, and copies."""
+
+
+def is_number(value):
+    """Whether a value is an integer. True and False are none, though Python counts them as such."""
+    return isinstance(value, int) and not isinstance(value, bool)
+
+
+def inner_first(whole, parts_of):
+    """The list of all parts of a whole, in order, what stands in a part ahead of it, and last the whole itself.
+
+    parts_of tells the parts of one thing. No call nests in another one, so that a whole may be as deep as it likes.
+    """
+    found, waiting = [], [whole]
+    while waiting:
+        part = waiting.pop()
+        found.append(part)
+        waiting.extend(parts_of(part))
+    # Each part was found ahead of what stands in it, and the last of its parts first: so from behind it is the order.
+    return found[::-1]
+
+
+def each_told(whole, parts_of, tell):
+    """The list of what tell makes of each part, inner ones first: of the part, and the list of what its parts made."""
+    made, waiting = [], []
+    for part in inner_first(whole, parts_of):
+        first = len(waiting) - len(parts_of(part))
+        made.append(tell(part, waiting[first:]))
+        waiting[first:] = [made[-1]]
+    return made
+
+
+def copied(value):
+    """A copy of any value, at any depth: no list and no dict in it is one of the value's."""
+    return each_told(value, _contents, _made_again)[-1]
+
+
+def _contents(value):
+    if isinstance(value, dict):
+        return [value[key] for key in value]
+    if isinstance(value, (list, tuple)):
+        return list(value)
+    return []
+
+
+def _made_again(value, contents):
+    if isinstance(value, dict):
+        return {key: part for key, part in zip(value, contents)}
+    if isinstance(value, list):
+        return list(contents)
+    if isinstance(value, tuple):
+        return tuple(contents)
+    return value

@@ -1,0 +1,71 @@
+"""Rows: letters, joins, endless repetitions to the right and to the left, and mixes."""
+
+from everrows.common import each_told, inner_first
+
+
+def is_letter(value):
+    """Whether any value is a letter: a string of one sign, from a to z."""
+    return isinstance(value, str) and len(value) == 1 and "a" <= value <= "z"
+
+
+def is_row(value):
+    """Whether any value is a row."""
+    waiting = [value]
+    while waiting:
+        parts = _parts_told(waiting.pop())
+        if parts is None:
+            return False
+        waiting.extend(parts)
+    return True
+
+
+def _parts_told(value):
+    """What must be rows if the value shall be one, or None if it is no row, whatever they are."""
+    if is_letter(value):
+        return ()
+    if not isinstance(value, tuple) or len(value) != 2:
+        return None
+    word, told = value
+    if word in ("right", "left"):
+        return (told,)
+    if word not in ("join", "mix") or not isinstance(told, tuple):
+        return None
+    least = 2 if word == "join" else 1
+    return told if len(told) >= least else None
+
+
+def parts_of(row):
+    """The tuple of the rows of which a row is told, () of a letter."""
+    if isinstance(row, str):
+        return ()
+    word, told = row
+    return (told,) if word in ("right", "left") else told
+
+
+def size_of(row):
+    """How many letters and how many joins, rights, lefts and mixes stand in a row."""
+    return len(inner_first(row, parts_of))
+
+
+def depth_of(row):
+    """How deep a row is: 0 for a letter, else 1 more than its deepest part."""
+    return each_told(row, parts_of, _depth_over)[-1]
+
+
+def _depth_over(_part, depths):
+    return 1 + max(depths, default=-1)
+
+
+def row_letters(row):
+    """The ascending list of the letters of a row, each once."""
+    return sorted({part for part in inner_first(row, parts_of) if isinstance(part, str)})
+
+
+def joined(rows):
+    """One row behind another; one row alone stays as it is."""
+    return rows[0] if len(rows) == 1 else ("join", tuple(rows))
+
+
+def copies(row, many):
+    """So many of a row, one behind another."""
+    return joined([row] * many)
