@@ -1,5 +1,7 @@
 """The examples of the interface, each as it is written there."""
 
+import doctest
+import pathlib
 import unittest
 
 EXAMPLES = '''
@@ -57,6 +59,58 @@ EXAMPLES = '''
     [('join', ('a', 'c')), ('join', (('left', 'c'), 'b', ('right', ('join', ('a', 'b'))))), None]
     >>> [are_near(ROUND, (5, 1), (0, 0)), are_near(MIX, (1, 2, 0), (1, 1)), are_near(MIX, (1, 2, 3), (1, 2, 0))]
     [True, False, True]
+
+    >>> from everrows.lots import is_lot, lot_of, lots, number_of
+    >>> [lots(2), [number_of(lot) for lot in lots(3)], lot_of([2, 0, 2])]
+    [[(0,), (1,), (0, 1)], [0, 1, 2, 3, 4, 5, 6], (0, 2)]
+    >>> [is_lot((0,), 2), is_lot((0, 1), 2), is_lot((1, 0), 2), is_lot((), 2), is_lot((2,), 2), is_lot((False,), 2), is_lot([0], 2)]
+    [True, True, False, False, False, False, False]
+
+    >>> from everrows.tables import both_of, count_of, is_table, joined_of, left_of, mixed_of, power_of, right_of, round_of, still_power
+    >>> HAS = (((0, 1), (1, 1)), (0, 1), (0, 1), (0, 1, 1))
+    >>> FIRST = (((0, 0, 0), (1, 1, 1), (2, 2, 2)), (0, 1, 2), (0, 0, 0), (0, 0, 0, 0, 0, 0, 0))
+    >>> [is_table(HAS), is_table(FIRST), is_table(HAS[:3]), is_table((((0, 2), (1, 1)), (0, 1), (0, 1), (0, 1, 1)))]
+    [True, True, False, False]
+    >>> [count_of(FIRST), both_of(FIRST, 1, 2), right_of(FIRST, 2), left_of(FIRST, 2), mixed_of(HAS, [1, 0, 1]), joined_of(FIRST, [2, 1, 0])]
+    [3, 1, 2, 0, 1, 2]
+    >>> TURN = (((0, 1), (1, 0)), (0, 0), (0, 0), (0, 0, 0))
+    >>> [power_of(TURN, 1, 7), round_of(TURN, 1), still_power(TURN, 1), round_of(HAS, 1)]
+    [1, (1, 2), 0, (1, 1)]
+
+    >>> from everrows.lawful import broken_rules, first_broken, holds, judge_broken
+    >>> [first_broken(HAS), first_broken(FIRST), first_broken(TURN), broken_rules(TURN)]
+    [None, None, (2, (1, 0)), [2, 4, 6]]
+    >>> BENT = (((0, 1), (1, 1)), (0, 1), (0, 1), (0, 1, 0))
+    >>> [first_broken(BENT), holds(BENT, 6, ((0, 1), 0)), judge_broken(BENT, (6, ((0, 1), 1))), judge_broken(BENT, (6, ((0, 1), 0)))]
+    [(6, ((0, 1), 1)), True, None, ('holds',)]
+    >>> [judge_broken(HAS, None), judge_broken(BENT, None), judge_broken(BENT, (6, (0, 1))), judge_broken(BENT, (3, (0, 4)))]
+    [None, ('lawless',), ('form',), ('form',)]
+    >>> [judge_broken(HAS, (6, ((0,), 1))), judge_broken(HAS, (9, ((0,), (1,)))), judge_broken(HAS, (9, ((0,), (0,))))]
+    [('form',), ('form',), ('holds',)]
+
+    >>> from everrows.parted import closed_lot, part_of, renumbered, side_by_side
+    >>> [renumbered(HAS, (1, 0)), closed_lot(FIRST, [2]), closed_lot(HAS, [1]), part_of(FIRST, (0, 2))]
+    [(((0, 0), (0, 1)), (0, 1), (0, 1), (0, 1, 0)), (0, 2), (1,), (((0, 0), (1, 1)), (0, 1), (0, 0), (0, 0, 0))]
+    >>> part_of(FIRST, (1, 2))
+    raises NotClosed(fault=('left', 1))
+    >>> [side_by_side(HAS, HAS)[1:3], side_by_side(HAS, HAS)[0][1], mixed_of(side_by_side(HAS, HAS), [1, 2])]
+    [((0, 1, 2, 3), (0, 1, 2, 3)), (1, 1, 3, 3), 3]
+    >>> side_by_side(FIRST, FIRST)
+    raises TooMany()
+
+    >>> from everrows.readers import answer, is_reader, judge_trace, reader_letters, says, trace
+    >>> SEES = (HAS, (("a", 1), ("b", 0)), (1,))
+    >>> [is_reader(SEES), is_reader((BENT, (("a", 1),), ())), is_reader((HAS, (("b", 0), ("a", 1)), (1,))), reader_letters(SEES)]
+    [True, False, False, ['a', 'b']]
+    >>> ROW = ("join", ("b", ("right", ("mix", ("a", "b")))))
+    >>> [answer(SEES, ROW), says(SEES, ("left", "b")), trace(SEES, ("right", "a"))]
+    [1, False, [('a', 1), (('right', 'a'), 1)]]
+    >>> [pair[0] for pair in trace(SEES, ROW)] == ["b", "a", "b", ("mix", ("a", "b")), ROW[1][1], ROW]
+    True
+    >>> answer(SEES, ("join", ("b", "d", "c")))
+    raises UnknownLetter(letter='d')
+    >>> [judge_trace(SEES, ("right", "a"), trace(SEES, ("right", "a"))), judge_trace(SEES, ("right", "a"), [("a", 1)]), judge_trace(SEES, ("right", "a"), [("a", 0), (("right", "a"), 1)]), judge_trace(SEES, "a", None)]
+    [None, ('parts', 1), ('answer', 0), ('form',)]
 '''
 
 MARK = "    >>> "
@@ -83,8 +137,14 @@ class Examples(unittest.TestCase):
                 looked_at += 1
             else:
                 exec(line[len(MARK):], names)
-        self.assertEqual(looked_at, EXAMPLES.count(MARK) - EXAMPLES.count(" import ") - EXAMPLES.count(", EVER = ")
-                         - EXAMPLES.count("    >>> AB = ") - EXAMPLES.count("    >>> ROUND, BACK"))
+        self.assertEqual(looked_at, len([line for line in lines if line.startswith("    ") and not line.startswith(MARK)]))
+        self.assertGreater(looked_at, 35)
+
+    def test_those_of_the_readme(self):
+        readme = pathlib.Path(__file__).resolve().parent.parent / "README.md"
+        results = doctest.testfile(str(readme), module_relative=False)
+        self.assertEqual(results.failed, 0)
+        self.assertGreater(results.attempted, 5)
 
 
 if __name__ == "__main__":

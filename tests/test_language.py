@@ -21,6 +21,14 @@ INTERFACE = {
                "places(row, copies, halvings)"],
     "sides": ["laid(rows)", "ahead(row, place)", "behind(row, place)", "between(row, one, other)",
               "many_between(row, one, other)", "are_near(row, one, other)", "put_at(row, place, other)"],
+    "lots": ["lots(n)", "number_of(lot)", "is_lot(value, n)", "lot_of(answers)"],
+    "tables": ["is_table(value)", "count_of(table)", "both_of(table, s, t)", "right_of(table, s)", "left_of(table, s)",
+               "mixed_of(table, answers)", "joined_of(table, answers)", "power_of(table, s, k)", "round_of(table, s)",
+               "still_power(table, s)"],
+    "lawful": ["first_broken(table)", "broken_rules(table)", "holds(table, number, things)", "judge_broken(table, value)"],
+    "parted": ["renumbered(table, order)", "closed_lot(table, answers)", "part_of(table, lot)", "side_by_side(one, other)"],
+    "readers": ["is_reader(value)", "reader_letters(reader)", "answer(reader, row)", "says(reader, row)", "trace(reader, row)",
+                "judge_trace(reader, row, value)"],
 }
 
 ALLOWED_BUILTINS = set("""len range enumerate zip min max sum abs sorted reversed int str bool list tuple dict set isinstance
@@ -130,8 +138,8 @@ class Files(unittest.TestCase):
             bound = list(bound_names(tree))
             for name in held:
                 self.assertEqual(bound.count(name), 1, f"{name} is given another meaning")
-            for name in [name for name in bound if name != "__init__"]:
-                self.assertRegex(name, "^(_|_?[A-Za-z][A-Za-z0-9_]*)$")
+            for name in [name for name in bound if name not in ("_", "__init__")]:
+                self.assertRegex(name, "^_?[A-Za-z][A-Za-z0-9_]*$")
                 self.assertFalse(hasattr(builtins, name), name)
                 self.assertNotIn(name, BARRED_NAMES)
                 self.assertNotRegex(name, "^(_wall|_pe_|_dcw_|_enum_|_cm_|_twin_re_|_lay_|_law_|_stub_|_sre)")
