@@ -224,6 +224,9 @@ class Lists(unittest.TestCase):
         self.assertRaises(TooMany, places, row, 5, 0)
         self.assertEqual(len(places(copies(copies("a", 20), 20), 0, 0)), 400)
         self.assertRaises(TooMany, places, joined([copies(copies("a", 20), 20), "a"]), 0, 0)
+        mix = ("mix", (copies(copies("a", 20), 20), "b"))
+        self.assertEqual(len(places(mix, 0, 1)), 400)
+        self.assertRaises(TooMany, places, mix, 0, 2)
 
     def test_the_number_is_looked_at_ahead_of_listing(self):
         row = "a"
