@@ -1,9 +1,25 @@
-"""What several files need: numbers, wholes told from the inside, and copies."""
+"""What several files need: numbers, papers, wholes told from the inside, and copies."""
 
 
 def is_number(value):
     """Whether a value is an integer. True and False are none, though Python counts them as such."""
     return isinstance(value, int) and not isinstance(value, bool)
+
+
+def is_paper(value, word):
+    """Whether any value is a tuple of a word and one thing more, whatever that is."""
+    return isinstance(value, tuple) and len(value) == 2 and value[0] == word
+
+
+def is_told_throughout(value, parts_told):
+    """Whether parts_told tells the parts, and not None, of any value and of all that stands in it."""
+    waiting = [value]
+    while waiting:
+        parts = parts_told(waiting.pop())
+        if parts is None:
+            return False
+        waiting.extend(parts)
+    return True
 
 
 def inner_first(whole, parts_of):
@@ -28,6 +44,15 @@ def each_told(whole, parts_of, tell):
         made.append(tell(part, waiting[first:]))
         waiting[first:] = [made[-1]]
     return made
+
+
+def depth_within(whole, parts_of):
+    """How many things with parts stand within one another in a whole: 0 if it has none itself."""
+    return each_told(whole, parts_of, _depth_over)[-1]
+
+
+def _depth_over(_part, depths):
+    return 1 + max(depths, default=-1)
 
 
 def copied(value):

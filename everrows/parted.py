@@ -1,18 +1,18 @@
 """Tables made of tables: renamed, cut down to a closed lot, put side by side."""
 
+from everrows.closed import closed_fault, layers
 from everrows.errors import NotClosed, TooMany
-from everrows.lots import lot_of, lots, lots_within
+from everrows.lots import lot_of, lots
 from everrows.tables import MOST_ANSWERS, both_of, count_of, left_of, mixed_of, right_of
 
 
 def renumbered(table, order):
     """The table in which each answer s has the name order[s]."""
-    return _called_anew(table, sorted(range(len(order)), key=lambda s: order[s]))
+    return table_named(table, sorted(range(len(order)), key=lambda s: order[s]), order)
 
 
-def _called_anew(table, answers):
-    """The table of these answers, no dealing leading out of them, named 0, 1, .. as they stand here."""
-    names = {s: name for name, s in enumerate(answers)}
+def table_named(table, answers, names):
+    """The table whose answers stand for these answers, in their order, names[s] being the name of what comes as s."""
     return (
         tuple([tuple([names[both_of(table, s, t)] for t in answers]) for s in answers]),
         tuple([names[right_of(table, s)] for s in answers]),
@@ -21,29 +21,17 @@ def _called_anew(table, answers):
     )
 
 
-def dealings_of(table, lot):
-    """The list of pairs (dealing, what comes of it) of all dealings of answers of a lot, in their order."""
-    found = [(("both", s, t), both_of(table, s, t)) for s in lot for t in lot]
-    found.extend([(("right", s), right_of(table, s)) for s in lot])
-    found.extend([(("left", s), left_of(table, s)) for s in lot])
-    found.extend([(("mixed", part), mixed_of(table, part)) for part in lots_within(lot)])
-    return found
-
-
 def closed_lot(table, answers):
     """The least closed lot that has all answers of a list."""
-    lot, more = (), lot_of(answers)
-    while lot != more:
-        lot, more = more, lot_of([*more, *[s for _, s in dealings_of(table, more)]])
-    return lot
+    return layers(table, lot_of(answers))[-1]
 
 
 def part_of(table, lot):
     """The table of the answers of a closed lot, named 0, 1, .. in their order; NotClosed(fault) if it is not closed."""
-    for dealing, s in dealings_of(table, lot):
-        if s not in lot:
-            raise NotClosed(dealing)
-    return _called_anew(table, lot)
+    fault = closed_fault(table, lot)
+    if fault is not None:
+        raise NotClosed(fault)
+    return table_named(table, lot, {s: name for name, s in enumerate(lot)})
 
 
 def side_by_side(one, other):

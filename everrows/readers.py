@@ -50,7 +50,7 @@ def trace(reader, row):
 
     def tell(part, answers):
         if not isinstance(part, str):
-            return _dealt(table, part[0], answers)
+            return dealt(table, part[0], answers)
         if part not in told:
             raise UnknownLetter(part)
         return told[part]
@@ -58,7 +58,7 @@ def trace(reader, row):
     return list(zip(inner_first(row, parts_of), each_told(row, parts_of, tell)))
 
 
-def _dealt(table, word, answers):
+def dealt(table, word, answers):
     """What comes of rows with these answers by the dealing of a word."""
     if word == "right":
         return right_of(table, answers[0])

@@ -1,6 +1,6 @@
 """Rows: letters, joins, endless repetitions to the right and to the left, and mixes."""
 
-from everrows.common import each_told, inner_first
+from everrows.common import depth_within, inner_first, is_told_throughout
 
 
 def is_letter(value):
@@ -10,13 +10,7 @@ def is_letter(value):
 
 def is_row(value):
     """Whether any value is a row."""
-    waiting = [value]
-    while waiting:
-        parts = _parts_told(waiting.pop())
-        if parts is None:
-            return False
-        waiting.extend(parts)
-    return True
+    return is_told_throughout(value, _parts_told)
 
 
 def _parts_told(value):
@@ -49,11 +43,7 @@ def size_of(row):
 
 def depth_of(row):
     """How deep a row is: 0 for a letter, else 1 more than its deepest part."""
-    return each_told(row, parts_of, _depth_over)[-1]
-
-
-def _depth_over(_part, depths):
-    return 1 + max(depths, default=-1)
+    return depth_within(row, parts_of)
 
 
 def row_letters(row):

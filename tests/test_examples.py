@@ -111,6 +111,108 @@ EXAMPLES = '''
     raises UnknownLetter(letter='d')
     >>> [judge_trace(SEES, ("right", "a"), trace(SEES, ("right", "a"))), judge_trace(SEES, ("right", "a"), [("a", 1)]), judge_trace(SEES, ("right", "a"), [("a", 0), (("right", "a"), 1)]), judge_trace(SEES, "a", None)]
     [None, ('parts', 1), ('answer', 0), ('form',)]
+
+    >>> from everrows.steps import is_steps, letters_in, row_of, step_answers, tidied
+    >>> TABLE = (((0, 1), (1, 1)), (0, 1), (0, 1), (0, 1, 1))
+    >>> READER, STEPS = (TABLE, (("a", 0), ("b", 1)), (1,)), ("a", "b", ("join", 0, 1), ("right", 2))
+    >>> [is_steps(STEPS), is_steps((("join", 0, 0),)), is_steps(("a", ("mix", ()))), is_steps(["a"]), letters_in(("b", "a", "b"))]
+    [True, False, False, False, ('a', 'b')]
+    >>> [row_of(STEPS), row_of(("a", ("left", 0), ("mix", (0, 1)))), step_answers(READER, STEPS)]
+    [('right', ('join', ('a', 'b'))), ('mix', ('a', ('left', 'a'))), (0, 1, 1, 1)]
+    >>> [tidied(("a", "b", "a", ("join", 2, 0), ("right", 3))), tidied(("a", "b", "a"))]
+    [('a', ('join', 0, 0), ('right', 1)), ('a',)]
+
+    >>> from everrows.closed import closed_fault, closed_lots, layers
+    >>> ODD = (((1, 0), (0, 1)), (1, 1), (0, 0), (0, 1, 1))
+    >>> [closed_fault(TABLE, (0,)), closed_fault(ODD, (0,)), closed_fault(ODD, (1,)), closed_fault((ODD[0], (0, 1), (0, 1), (0, 0, 1)), (1,))]
+    [None, ('both', 0, 0), ('left', 1), ('mixed', (1,))]
+    >>> [layers(TABLE, (0,)), layers(ODD, (1,)), closed_lots(TABLE), closed_lots(ODD)]
+    [[(0,)], [(1,), (0, 1)], [(0,), (1,), (0, 1)], [(0, 1)]]
+
+    >>> from everrows.reached import always, judge_always, judge_asked, reached, row_or_lot, spare, turns
+    >>> LONE, BOTH = (TABLE, (("a", 0),), (1,)), (TABLE, (("a", 0), ("b", 1), ("c", 1)), (1,))
+    >>> [sorted(reached(READER)), turns(READER), turns(LONE), spare(BOTH), spare(LONE)]
+    [[0, 1], [(0, 1)], [(0,)], ('b', 'c'), ()]
+    >>> [row_or_lot(LONE, (1,)), row_or_lot(READER, (1,))[0], judge_asked(READER, (1,), ("row", STEPS)), judge_asked(READER, (1,), ("lot", (0,)))]
+    [('lot', (0,)), 'row', None, ('lacks', 'b')]
+    >>> [always((TABLE, (("b", 1),), (1,))), always(READER)[0], judge_always(READER, ("not", STEPS)), judge_always(READER, ("always", (0, 1)))]
+    [('always', (1,)), 'not', ('yes', 1), ('odd', 0)]
+    >>> judge_asked(LONE, (1,), ("row", STEPS))
+    ('letter', 'b')
+
+    >>> from everrows.pairs import leads_out, pair_of, pairs_reached
+    >>> HAS = (((0, 1), (1, 1)), (0, 1), (0, 1), (0, 1, 1))
+    >>> HASB, HASA = (HAS, (("a", 0), ("b", 1)), (1,)), (HAS, (("a", 1), ("b", 0)), (1,))
+    >>> ALL = (HAS, (("a", 0), ("b", 1)), (0, 1))
+    >>> [pair_of(HASB, HASA, ("a", "b", ("join", 0, 1))), pair_of(HASB, HASA, ("a", ("right", 0)))]
+    [(1, 1), (0, 1)]
+    >>> sorted(pairs_reached(HASB, HASA))
+    [(0, 1), (1, 0), (1, 1)]
+    >>> [leads_out(HASB, HASA, ((0, 1), (1, 0))), leads_out(HASB, HASA, ((0, 1), (1, 0), (1, 1)))]
+    [('both', (0, 1), (1, 0)), None]
+
+    >>> from everrows.agreeing import agree, disjoint, judge_agree, judge_disjoint, judge_within, within
+    >>> [agree(HASB, HASA)[0], agree(HASB, HASB)[0], within(HASB, ALL)[0], within(ALL, HASB)[0], disjoint(HASB, HASA)[0]]
+    ['parts', 'agree', 'within', 'parts', 'parts']
+    >>> [judge_agree(HASB, HASA, ("parts", ("a",))), judge_agree(HASB, HASA, ("parts", ("a", "b", ("join", 0, 1)))), judge_agree(HASB, HASA, ("parts", ("c",)))]
+    [None, ('pair', (1, 1)), ('letter', 'c')]
+    >>> [judge_within(HASB, ALL, ("within", ((0, 0), (1, 1)))), judge_within(HASB, ALL, ("within", ((1, 1),))), judge_within(HASB, ALL, ("agree", ((0, 0), (1, 1))))]
+    [None, ('lacks', 'a'), ('form',)]
+    >>> judge_disjoint(HASB, HASA, ("disjoint", ((0, 1), (1, 0))))
+    ('both', (0, 1), (1, 0))
+
+    >>> from everrows.meetings import alike_lots, meetings, order_of
+    >>> sorted(meetings(HASB, HASA))
+    [(False, True), (True, False), (True, True)]
+    >>> [alike_lots([HASB, HASA, HASB]), order_of([HASB, ALL])]
+    [[(0, 2), (1,)], [(0, 1)]]
+
+    >>> from everrows.surrounding import answer_round, is_surroundings, put_round
+    >>> MANY = (((0, 1, 2), (1, 2, 2), (2, 2, 2)), (0, 2, 2), (0, 2, 2), (0, 2, 2, 2, 2, 2, 2))
+    >>> ONE, JUST = (MANY, (("a", 0), ("b", 1)), (1, 2)), (MANY, (("a", 0), ("b", 1)), (1,))
+    >>> [is_surroundings((("ahead", ("a",)), ("mixed", ()))), is_surroundings((("ahead", "a"),)), is_surroundings(())]
+    [True, False, True]
+    >>> put_round(("a",), (("behind", ("b",)), ("mixed", ())))
+    ('a', 'b', ('join', 0, 1), ('mix', (2,)))
+    >>> put_round(("a", ("right", 0)), (("ahead", ("b", ("left", 0))),))
+    ('a', ('right', 0), 'b', ('left', 2), ('join', 3, 1))
+    >>> [answer_round(JUST, 0, (("ahead", ("b",)),)), answer_round(JUST, 0, (("ahead", ("b",)), ("right",)))]
+    [1, 2]
+
+    >>> from everrows.apart import classes, judge_part, part
+    >>> [part(ONE, 1, 2), part(JUST, 0, 2)[0], classes(JUST)]
+    [('alike', ((0,), (1, 2))), 'parts', ((0,), (1,), (2,))]
+    >>> [judge_part(ONE, 1, 2, ("alike", ((0, 1), (2,)))), judge_part(JUST, 0, 2, ("parts", ())), judge_part(JUST, 0, 2, ("parts", (("ahead", ("b",)),)))]
+    [('yes', 0), ('answers', (0, 2)), None]
+    >>> [judge_part(JUST, 0, 2, ("alike", ((0, 2), (1,)))), judge_part(ONE, 1, 2, ("alike", ((1, 2),)))]
+    [('ahead', 0, 2, 1), ('reached', 0)]
+
+    >>> from everrows.leasts import called, is_least, judge_rename, least, rename
+    >>> HAS = (((0, 1), (1, 1)), (0, 1), (0, 1), (0, 1, 1))
+    >>> HASB, HASA = (HAS, (("a", 0), ("b", 1)), (1,)), (HAS, (("a", 1), ("b", 0)), (1,))
+    >>> [least(ONE) == HASB, is_least(ONE), is_least(HASB), is_least(JUST)]
+    [True, False, True, True]
+    >>> called(HASB, (1, 0))
+    ((((0, 0), (0, 1)), (0, 1), (0, 1), (0, 1, 0)), (('a', 1), ('b', 0)), (0,))
+    >>> [rename(ONE, HASB), rename(HASB, called(HASB, (1, 0))), rename(HASB, HASA)[0]]
+    [('same', (0, 1)), ('same', (1, 0)), 'parts']
+    >>> [judge_rename(ONE, HASB, ("same", (1, 0))), judge_rename(HASB, HASA, ("parts", ("a",))), judge_rename(ONE, HASB, ("same", (0,)))]
+    [('lacks', 'a'), None, ('form',)]
+
+    >>> from everrows.lumps import depth, is_level_letter, letter_text, lump_of, root, turned_letter, width
+    >>> [root(("a", "b", "a", "b")), root(("a", "b", "a")), lump_of((), ("a",), ())]
+    [('a', 'b'), ('a', 'b', 'a'), 'a']
+    >>> [lump_of((), ("a", "b", "b"), ("a", "b")), lump_of(("b", "a"), ("b", "a", "c"), ())]
+    [('lump', (), ('a', 'b'), ('b', 'a')), ('lump', ('b', 'a'), ('c',), ())]
+    >>> [lump_of(("b", "a"), ("b",), ("a", "b")), lump_of(("a",), (), ("a", "b"))]
+    [('lump', ('a', 'b'), (), ('a', 'b')), ('lump', ('a',), (), ('a', 'b'))]
+    >>> A_B = ("lump", (), ("a",), ("b",))
+    >>> [letter_text(A_B), letter_text(("mixture", ("a", A_B))), letter_text(("lump", ("a", "b"), ("c",), ()))]
+    ['{a (b)>}', '[a, {a (b)>}]', '{<(a b) c}']
+    >>> [is_level_letter(A_B), is_level_letter(("lump", (), ("a",), ())), is_level_letter(("lump", (), ("a", "b"), ("b",)))]
+    [True, False, False]
+    >>> [turned_letter(A_B), width(("mixture", ("a", A_B))), depth(("mixture", ("a", A_B)))]
+    [('lump', ('b',), ('a',), ()), 3, 2]
 '''
 
 MARK = "    >>> "

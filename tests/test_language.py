@@ -29,6 +29,20 @@ INTERFACE = {
     "parted": ["renumbered(table, order)", "closed_lot(table, answers)", "part_of(table, lot)", "side_by_side(one, other)"],
     "readers": ["is_reader(value)", "reader_letters(reader)", "answer(reader, row)", "says(reader, row)", "trace(reader, row)",
                 "judge_trace(reader, row, value)"],
+    "steps": ["is_steps(value)", "row_of(steps)", "letters_in(steps)", "tidied(steps)", "step_answers(reader, steps)"],
+    "closed": ["closed_fault(table, lot)", "layers(table, lot)", "closed_lots(table)"],
+    "reached": ["reached(reader)", "turns(reader)", "spare(reader)", "row_or_lot(reader, answers)",
+                "judge_asked(reader, answers, value)", "always(reader)", "judge_always(reader, value)"],
+    "pairs": ["pair_of(one, other, steps)", "pairs_reached(one, other)", "leads_out(one, other, pairs)"],
+    "agreeing": ["agree(one, other)", "within(one, other)", "disjoint(one, other)", "judge_agree(one, other, value)",
+                 "judge_within(one, other, value)", "judge_disjoint(one, other, value)"],
+    "meetings": ["meetings(one, other)", "alike_lots(readers)", "order_of(readers)"],
+    "surrounding": ["is_surroundings(value)", "put_round(steps, surroundings)", "answer_round(reader, s, surroundings)"],
+    "apart": ["part(reader, s, t)", "judge_part(reader, s, t, value)", "classes(reader)"],
+    "leasts": ["least(reader)", "is_least(reader)", "called(reader, names)", "rename(one, other)",
+               "judge_rename(one, other, value)"],
+    "lumps": ["letter_text(letter)", "root(word)", "lump_of(left, middle, right)", "is_level_letter(value)",
+              "turned_letter(letter)", "width(letter)", "depth(letter)"],
 }
 
 ALLOWED_BUILTINS = set("""len range enumerate zip min max sum abs sorted reversed int str bool list tuple dict set isinstance

@@ -9,26 +9,8 @@ from everrows.lawful import broken_rules, first_broken
 from everrows.parted import closed_lot, part_of, renumbered, side_by_side
 from everrows.tables import is_table
 from tests.rowmaking import kept
-from tests.tablemaking import BENT, FIRST, HAS, LAWFUL, ONE, SIX, TURN, mixed_as_told, random_table, subsets
-
-
-def fault_as_told(table, lot):
-    """[3.5], straight from the document: the first dealing that leads out of a lot."""
-    both, right, left, _ = table
-    for s in lot:
-        for t in lot:
-            if both[s][t] not in lot:
-                return ("both", s, t)
-    for s in lot:
-        if right[s] not in lot:
-            return ("right", s)
-    for s in lot:
-        if left[s] not in lot:
-            return ("left", s)
-    for P in subsets(6):
-        if set(P) <= set(lot) and mixed_as_told(table, P) not in lot:
-            return ("mixed", P)
-    return None
+from tests.tablemaking import (BENT, FIRST, HAS, LAWFUL, ONE, SIX, TURN, WIDE, fault_as_told, mixed_as_told, random_table,
+                               subsets)
 
 
 class Renumbered(unittest.TestCase):

@@ -10,7 +10,7 @@ from everrows.rows import copies, joined, row_letters
 from everrows.sides import ahead, behind, laid, put_at
 from everrows.texts import read_row, row_text
 from tests.rowmaking import ODD_VALUES, kept, nearly, random_place, random_row
-from tests.tablemaking import BENT, BROKEN, FIRST, HAS, LAWFUL, ONE, SEES, SIX, TURN, mixed_as_told
+from tests.tablemaking import BENT, BROKEN, FIRST, HAS, LAWFUL, ONE, SEES, SIX, TURN, mixed_as_told, random_reader
 
 ROW = ("join", ("b", ("right", ("mix", ("a", "b")))))
 
@@ -50,12 +50,6 @@ def reader_as_told(value):
             return False
     names = [pair[0] for pair in letters]
     return names == sorted(set(names)) and repr(yes) in ("()", "(0,)", "(1,)", "(0, 1)")
-
-
-def random_reader(rng, letters="abc"):
-    table = rng.choice(LAWFUL)
-    n = len(table[0])
-    return (table, tuple((letter, rng.randrange(n)) for letter in letters), tuple(s for s in range(n) if rng.random() < 0.5))
 
 
 class AreReaders(unittest.TestCase):
