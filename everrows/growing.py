@@ -7,7 +7,7 @@ WORDS = {"both": "join", "right": "right", "left": "left", "mixed": "mix"}
 
 
 def steps_by_dealings(letters, dealings_of_all, parts_of_dealing):
-    """The dict that has steps for each thing that rows have, letters being pairs (letter, thing).
+    """The dict, by things ascending, that has steps for each that rows have, letters being pairs (letter, thing).
 
     dealings_of_all tells, for the ascending tuple of the things known so far, the list of pairs (dealing, what comes of
     it), parts_of_dealing, for a dealing and that tuple, the list of the things that are dealt with.

@@ -6,9 +6,9 @@ from everrows.pairs import pairs_reached
 
 def meetings(one, other):
     """The dict that has steps of a row for each pair (whether one says yes, whether other does) that some row has."""
-    found = {}
-    for pair, steps in pairs_reached(one, other).items():
-        found.setdefault(says_of(one, other, pair), steps)
+    told, found = pairs_reached(one, other), {}
+    for pair in told:
+        found.setdefault(says_of(one, other, pair), told[pair])
     return found
 
 
