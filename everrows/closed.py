@@ -13,12 +13,17 @@ def dealings_of(table, lot):
     return found
 
 
-def closed_fault(table, lot):
-    """The first dealing that leads out of a lot, None if it is closed."""
-    for dealing, s in dealings_of(table, lot):
-        if s not in lot:
+def first_out(dealings, lot):
+    """The first of dealings, pairs (dealing, what comes of it), that leads out of a lot of any things, else None."""
+    for dealing, thing in dealings:
+        if thing not in lot:
             return dealing
     return None
+
+
+def closed_fault(table, lot):
+    """The first dealing that leads out of a lot, None if it is closed."""
+    return first_out(dealings_of(table, lot), lot)
 
 
 def layers(table, lot):

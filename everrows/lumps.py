@@ -17,7 +17,7 @@ def letters_of(letter):
     return letter[1] if letter[0] == "mixture" else letter[1] + letter[2] + letter[3]
 
 
-def _split(letter, things):
+def words_of(letter, things):
     """What stands for a lump's left, middle and right letters, things being a list with one for each of its letters."""
     _, left, middle, right = letter
     end = len(left) + len(middle)
@@ -29,7 +29,7 @@ def _text_over(letter, texts):
         return letter
     if letter[0] == "mixture":
         return "[" + ", ".join(texts) + "]"
-    left, middle, right = _split(letter, texts)
+    left, middle, right = words_of(letter, texts)
     ahead = ["<(" + " ".join(left) + ")"] if left else []
     behind = ["(" + " ".join(right) + ")>"] if right else []
     return "{" + " ".join([*ahead, *middle, *behind]) + "}"
@@ -112,7 +112,7 @@ def _turned_over(letter, turned):
         return letter
     if letter[0] == "mixture":
         return "mixture", tuple(sorted(turned, key=letter_text))
-    left, middle, right = [tuple(letters[::-1]) for letters in _split(letter, turned)]
+    left, middle, right = [tuple(letters[::-1]) for letters in words_of(letter, turned)]
     return lump_of(right, middle, left)
 
 

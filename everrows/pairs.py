@@ -1,5 +1,6 @@
 """Pairs of answers, those of one row by two readers of the same letters."""
 
+from everrows.closed import first_out
 from everrows.growing import steps_by_dealings
 from everrows.lots import lot_of, lots_within, number_of
 from everrows.steps import step_answers
@@ -18,21 +19,17 @@ def letter_pairs(one, other):
 
 def pairs_reached(one, other):
     """The dict that has for each pair of some row steps for such a row."""
-    tables = (one[0], other[0])
-    return steps_by_dealings(letter_pairs(one, other), lambda pairs: _dealings_of(tables, pairs), _pairs_dealt)
+    return steps_by_dealings(letter_pairs(one, other), lambda pairs: pair_dealings(one, other, pairs), pairs_dealt)
 
 
 def leads_out(one, other, pairs):
     """The first dealing that leads out of a lot of pairs, None if it is closed."""
-    for dealing, pair in _dealings_of((one[0], other[0]), pairs):
-        if pair not in pairs:
-            return dealing
-    return None
+    return first_out(pair_dealings(one, other, pairs), pairs)
 
 
-def _dealings_of(tables, pairs):
-    """The list of (dealing, the pair that comes) of all dealings of pairs by two tables, in their order."""
-    table, beside = tables
+def pair_dealings(one, other, pairs):
+    """The list of (dealing, the pair that comes) of all dealings of pairs, in their order."""
+    table, beside = one[0], other[0]
     found = []
     for s, u in pairs:
         found.extend([(("both", (s, u), (t, v)), (both_of(table, s, t), both_of(beside, u, v))) for t, v in pairs])
@@ -61,7 +58,8 @@ def _covered_with(firsts, pairs):
     return found
 
 
-def _pairs_dealt(dealing, pairs):
+def pairs_dealt(dealing, pairs):
+    """The list of those of the pairs known so far with which a dealing deals."""
     if dealing[0] != "mixed":
         return dealing[1:]
     _, firsts, seconds = dealing

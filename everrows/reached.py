@@ -12,10 +12,11 @@ from everrows.tables import count_of
 def reached(reader):
     """The dict that has for each reached answer steps whose answer it is."""
     table, letters, _ = reader
-    return steps_by_dealings(letters, lambda lot: dealings_of(table, lot), _answers_dealt)
+    return steps_by_dealings(letters, lambda lot: dealings_of(table, lot), answers_dealt)
 
 
-def _answers_dealt(dealing, _lot):
+def answers_dealt(dealing, _lot):
+    """The tuple of the answers with which a dealing deals."""
     return dealing[1] if dealing[0] == "mixed" else dealing[1:]
 
 

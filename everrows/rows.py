@@ -36,6 +36,11 @@ def parts_of(row):
     return (told,) if word in ("right", "left") else told
 
 
+def row_made(word, rows):
+    """The row of a word and a list of the rows of which it is told."""
+    return word, rows[0] if word in ("right", "left") else tuple(rows)
+
+
 def size_of(row):
     """How many letters and how many joins, rights, lefts and mixes stand in a row."""
     return len(inner_first(row, parts_of))

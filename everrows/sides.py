@@ -19,7 +19,7 @@ def laid(rows):
     return ("join", tuple(found))
 
 
-def _laid_of(rows):
+def laid_of(rows):
     """The rows laid, those left out that are None."""
     return laid([row for row in rows if row is not None])
 
@@ -28,7 +28,7 @@ def ahead(row, place):
     """What is ahead of a place, None if nothing is."""
     found = None
     for dealing, numbers, _ in way_to(row, place)[::-1]:
-        found = _laid_of([*_parts_ahead(dealing, numbers[0]), found])
+        found = laid_of([*_parts_ahead(dealing, numbers[0]), found])
     return found
 
 
@@ -36,7 +36,7 @@ def behind(row, place):
     """What is behind a place, None if nothing is."""
     found = None
     for dealing, numbers, _ in way_to(row, place)[::-1]:
-        found = _laid_of([found, *_parts_behind(dealing, numbers[0])])
+        found = laid_of([found, *_parts_behind(dealing, numbers[0])])
     return found
 
 
@@ -60,7 +60,7 @@ def between(row, one, other):
     """What is between two places, one ahead of other, None if nothing is."""
     dealing, mine, yours, at = parting(row, one, other)
     inner = at + len(mine)
-    return _laid_of([
+    return laid_of([
         behind(part_at(dealing, mine), one[inner:]),
         *_parts_between(dealing, mine[0], yours[0]),
         ahead(part_at(dealing, yours), other[inner:]),
@@ -91,4 +91,4 @@ def are_near(row, one, other):
 
 def put_at(row, place, other):
     """The row with another row in the place of a place."""
-    return _laid_of([ahead(row, place), other, behind(row, place)])
+    return laid_of([ahead(row, place), other, behind(row, place)])

@@ -4,7 +4,7 @@ from everrows.common import is_number
 from everrows.errors import TooMany
 from everrows.lots import ascend, lot_of
 from everrows.readers import dealt, reader_letters
-from everrows.rows import is_letter
+from everrows.rows import is_letter, row_made
 
 MOST_SIZE = 200
 
@@ -57,11 +57,8 @@ def row_of(steps):
         raise TooMany()
     rows = []
     for entry in steps:
-        parts = tuple([rows[i] for i in numbers_in(entry)])
-        if isinstance(entry, str):
-            rows.append(entry)
-        else:
-            rows.append((entry[0], parts[0] if entry[0] in ("right", "left") else parts))
+        parts = [rows[i] for i in numbers_in(entry)]
+        rows.append(row_made(entry[0], parts) if parts else entry)
     return rows[-1]
 
 

@@ -213,6 +213,75 @@ EXAMPLES = '''
     [True, False, False]
     >>> [turned_letter(A_B), width(("mixture", ("a", A_B))), depth(("mixture", ("a", A_B)))]
     [('lump', ('b',), ('a',), ()), 3, 2]
+
+    >>> from everrows.levels import blended, form, has_near, level_rows, levels, lumped
+    >>> FOR_EVER, MIXED = ("right", "a"), ("mix", ("a",))
+    >>> [has_near(FOR_EVER), has_near(MIXED), has_near(("join", (FOR_EVER, "a"))), has_near(("join", (MIXED, "a", MIXED)))]
+    [True, False, True, False]
+    >>> [lumped(FOR_EVER), blended(MIXED), blended(("join", (MIXED, "a", MIXED)))]
+    [('lump', (), (), ('a',)), ('mixture', ('a',)), ('mixture', ('a',))]
+    >>> levels(("right", ("join", ("a", ("right", "b")))))
+    [['a', 'b'], [('lump', (), ('a',), ('b',))], [('lump', (), (), (('lump', (), ('a',), ('b',)),))]]
+    >>> [form(("join", ("a", ("right", ("join", ("b", "a")))))), form(("join", (MIXED, "b", MIXED)))]
+    [('lump', (), (), ('a', 'b')), ('lump', (), (('mixture', ('a',)), 'b', ('mixture', ('a',))), ())]
+    >>> len(level_rows(("mix", (("join", ("a", "b")), "c"))))
+    3
+
+    >>> from everrows.one import are_one, compare, is_form, judge_compare, unfolded
+    >>> [are_one(("join", (MIXED, MIXED)), MIXED), are_one(("join", (MIXED, "a")), MIXED)]
+    [True, False]
+    >>> [compare(FOR_EVER, ("left", "a")), compare(MIXED, ("mix", (MIXED, "a"))), compare(MIXED, "b")]
+    [('differ', 1, ('lump', (), (), ('a',))), ('one', ('mixture', ('a',))), ('differ', 0, 'a')]
+    >>> [judge_compare(FOR_EVER, ("left", "a"), ("differ", 0, "a")), judge_compare(MIXED, MIXED, ("one", "a")), judge_compare("a", "a", None)]
+    [('level', 1), ('letter', ('mixture', ('a',))), ('form',)]
+    >>> [form(unfolded(A_B)) == A_B, is_form(A_B), is_form(("lump", (), ("a", ("lump", (), ("b", "c"), ())), ()))]
+    [True, True, False]
+    >>> [is_form(("mixture", ("a",))), is_form(("mixture", (("mixture", ("a",)), "a"))), is_form(None)]
+    [True, False, False]
+
+    >>> from everrows.cuts import ahead_pairs, cut_of_sort, cut_rows, cuts, first_letter, judge_cut, judge_cut_of_sort
+    >>> from everrows.cuts import last_letter, next_pairs, sorts_of_cuts
+    >>> SEEN = ((((0, 1), (1, 1)), (0, 1), (0, 1), (0, 1, 1)), (("a", 1), ("b", 0)), (1,))
+    >>> EVER, BA, DENSE = ("right", ("join", ("a", "b"))), ("join", ("b", "a")), ("mix", ("b",))
+    >>> [cuts(SEEN, EVER), cuts(SEEN, ("join", ("b", "b", "a"))), cuts(SEEN, DENSE), cuts(SEEN, "a")]
+    [[(1, 1)], [(0, 1)], [(0, 0)], []]
+    >>> [cut_rows(SEEN, BA, (0, 1)), cut_rows(SEEN, BA, (1, 0)), judge_cut(SEEN, EVER, (1, 1), cut_rows(SEEN, EVER, (1, 1)))]
+    [('b', 'a'), None, None]
+    >>> [judge_cut(SEEN, BA, (0, 1), value) for value in (None, ("a", "b"), ("b", EVER), ("b",))]
+    [('there',), ('answer', 1, 0), ('row',), ('form',)]
+    >>> [first_letter(EVER), last_letter(EVER), first_letter(DENSE), last_letter(("left", "a"))]
+    ['a', None, None, 'a']
+    >>> [sorts_of_cuts(EVER), sorts_of_cuts(DENSE), sorts_of_cuts(("join", (EVER, "a"))), sorts_of_cuts("a")]
+    [['jump'], ['first', 'gap', 'last'], ['first', 'jump'], []]
+    >>> [cut_of_sort(BA, "jump"), cut_of_sort(BA, "gap"), judge_cut_of_sort(BA, "gap", ("b", "a"))]
+    [('b', 'a'), None, ('sort', 'jump')]
+    >>> [next_pairs(EVER), next_pairs(DENSE), ahead_pairs(BA), ahead_pairs(DENSE)]
+    [[('a', 'b'), ('b', 'a')], [], [('b', 'a')], [('b', 'b')]]
+
+    >>> from everrows.pieces import all_pieces, beginnings, common_pieces, ends, has_piece, judge_all_pieces, judge_piece
+    >>> from everrows.pieces import pieces, pieces_within
+    >>> [beginnings(SEEN, EVER), ends(SEEN, EVER), pieces(SEEN, EVER), beginnings(SEEN, BA), ends(SEEN, BA)]
+    [[1], [1], [0, 1], [0, 1], [1]]
+    >>> [has_piece(SEEN, BA, 0), has_piece(SEEN, BA, 1) is None, has_piece(SEEN, "a", 0)]
+    [(None, 'b', 'a'), False, None]
+    >>> [judge_piece(SEEN, BA, 0, value) for value in (None, (None, "a", None), ("b", "b", "a"), (None, "b", "a"))]
+    [('there',), ('answer', 1), ('row',), None]
+    >>> [all_pieces(SEEN, "a"), all_pieces(SEEN, BA), judge_all_pieces(SEEN, BA, ("all", (1,))), judge_all_pieces(SEEN, BA, ("all", (0, 1)))]
+    [('all', (1,)), ('not', (None, 'b', 'a')), ('lacks', 0), ('yes', 0)]
+    >>> [pieces_within(SEEN, DENSE, BA), pieces_within(SEEN, BA, DENSE), common_pieces(SEEN, BA, DENSE)]
+    [('within',), ('parts', 1), [0]]
+
+    >>> from everrows.sorts import by_sort, judge_by_sort, judge_same, same_by_sort, sorts_of, sorts_of_row
+    >>> [sorts_of_row("a"), sorts_of_row(("right", "a")), sorts_of_row(("mix", ("a",)))]
+    [['finite', 'right', 'left', 'scattered', 'all'], ['right', 'scattered', 'all'], ['all']]
+    >>> TWO = (((0, 1), (1, 1)), (0, 1), (0, 1), (0, 1, 1))
+    >>> HAS = (TWO, (("a", 0), ("b", 1)), (1,))
+    >>> [judge_by_sort(HAS, "finite", 1, ("row", ("b",))), judge_by_sort(HAS, "finite", 1, ("row", ("a", ("right", 0))))]
+    [None, ('dealing', 1)]
+    >>> [judge_by_sort(HAS, "all", 1, ("lot", (0,))), judge_by_sort(HAS, "all", 1, ("lot", (0, 1)))]
+    [('lacks', 'b'), ('asked',)]
+    >>> [sorts_of(HAS) == {0: sorts_of_row("a"), 1: sorts_of_row("a")}, judge_same(HAS, HAS, "all", ("agree", ((0, 0), (1, 1))))]
+    [True, None]
 '''
 
 MARK = "    >>> "

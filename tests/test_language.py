@@ -43,6 +43,17 @@ INTERFACE = {
                "judge_rename(one, other, value)"],
     "lumps": ["letter_text(letter)", "root(word)", "lump_of(left, middle, right)", "is_level_letter(value)",
               "turned_letter(letter)", "width(letter)", "depth(letter)"],
+    "levels": ["has_near(row)", "lumped(row)", "blended(row)", "level_rows(row)", "levels(row)", "form(row)"],
+    "one": ["unfolded(thing)", "is_form(value)", "are_one(one, other)", "compare(one, other)",
+            "judge_compare(one, other, value)"],
+    "cuts": ["cuts(reader, row)", "cut_rows(reader, row, pair)", "judge_cut(reader, row, pair, value)", "first_letter(row)",
+             "last_letter(row)", "sorts_of_cuts(row)", "cut_of_sort(row, sort)", "judge_cut_of_sort(row, sort, value)",
+             "next_pairs(row)", "ahead_pairs(row)"],
+    "pieces": ["beginnings(reader, row)", "ends(reader, row)", "pieces(reader, row)", "has_piece(reader, row, s)",
+               "judge_piece(reader, row, s, value)", "all_pieces(reader, row)", "judge_all_pieces(reader, row, value)",
+               "pieces_within(reader, one, other)", "common_pieces(reader, one, other)"],
+    "sorts": ["sorts_of_row(row)", "by_sort(reader, sort, s)", "judge_by_sort(reader, sort, s, value)", "sorts_of(reader)",
+              "same_by_sort(one, other, sort)", "judge_same(one, other, sort, value)"],
 }
 
 ALLOWED_BUILTINS = set("""len range enumerate zip min max sum abs sorted reversed int str bool list tuple dict set isinstance
