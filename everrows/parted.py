@@ -36,18 +36,21 @@ def part_of(table, lot):
 
 def side_by_side(one, other):
     """The table of all pairs of answers of two tables; TooMany() above six."""
-    many = count_of(other)
-    if count_of(one) * many > MOST_ANSWERS:
+    if count_of(one) * count_of(other) > MOST_ANSWERS:
         raise TooMany()
-    pairs = [(s, t) for s in range(count_of(one)) for t in range(many)]
-    both = [[both_of(one, s, u) * many + both_of(other, t, v) for u, v in pairs] for s, t in pairs]
+    return table_of_pairs(one, other, [(s, t) for s in range(count_of(one)) for t in range(count_of(other))])
+
+
+def table_of_pairs(one, other, pairs):
+    """The table of pairs of answers of two tables, out of which no dealing leads, named 0, 1, .. in their order."""
+    names = {pair: name for name, pair in enumerate(pairs)}
     mixed = []
     for lot in lots(len(pairs)):
-        firsts, seconds = [pairs[k][0] for k in lot], [pairs[k][1] for k in lot]
-        mixed.append(mixed_of(one, firsts) * many + mixed_of(other, seconds))
+        firsts, seconds = [pairs[name][0] for name in lot], [pairs[name][1] for name in lot]
+        mixed.append(names[mixed_of(one, firsts), mixed_of(other, seconds)])
     return (
-        tuple([tuple(row) for row in both]),
-        tuple([right_of(one, s) * many + right_of(other, t) for s, t in pairs]),
-        tuple([left_of(one, s) * many + left_of(other, t) for s, t in pairs]),
+        tuple([tuple([names[both_of(one, s, u), both_of(other, t, v)] for u, v in pairs]) for s, t in pairs]),
+        tuple([names[right_of(one, s), right_of(other, t)] for s, t in pairs]),
+        tuple([names[left_of(one, s), left_of(other, t)] for s, t in pairs]),
         tuple(mixed),
     )

@@ -282,6 +282,56 @@ EXAMPLES = '''
     [('lacks', 'b'), ('asked',)]
     >>> [sorts_of(HAS) == {0: sorts_of_row("a"), 1: sorts_of_row("a")}, judge_same(HAS, HAS, "all", ("agree", ((0, 0), (1, 1))))]
     [True, None]
+
+    >>> from everrows.made import beside, negated
+    >>> negated(HAS)[2]
+    (0,)
+    >>> beside(HAS, negated(HAS), "and")
+    ((((0, 1), (1, 1)), (0, 1), (0, 1), (0, 1, 1)), (('a', 0), ('b', 1)), ())
+
+    >>> from everrows.exchanged import replaced, replaced_row, turned, turned_row
+    >>> turned_row(("join", ("a", ("right", "b"))))
+    ('join', (('left', 'b'), 'a'))
+    >>> [turned(HAS) == HAS, replaced_row(("right", "a"), {"a": ("join", ("a", "b"))})]
+    [True, ('right', ('join', ('a', 'b')))]
+    >>> replaced(HAS, {"d": ("right", "b"), "c": "a"})[1]
+    (('c', 0), ('d', 1))
+
+    >>> from everrows.deeds import after, deed_text, is_thing, read_deed, thing_text
+    >>> SEES = ((((0, 1), (1, 1)), (0, 1), (0, 1), (0, 1, 1)), (("a", 1), ("b", 0)), (1,))
+    >>> FIRST = after(after({}, ("row", "p", "a")), ("right", "q", "p"))
+    >>> [FIRST, is_thing(("row", "a")), is_thing(("row", "ab")), thing_text(FIRST["q"]), thing_text(("reader", SEES))]
+    [{'p': ('row', 'a'), 'q': ('row', ('right', 'a'))}, True, False, '(a)>', 'a1,b0 01/11 01 01 011 1']
+    >>> [thing_text(after(FIRST, deed)["r"]) for deed in (("join", "r", ("p", "q")), ("mix", "r", ("q", "p")), ("put", "r", "q", (2,), "p"), ("turn", "r", "q"))]
+    ['a (a)>', '[(a)>, a]', 'a a a (a)>', '<(a)']
+    >>> [deed_text(("put", "r", "p", (), "q")), read_deed("join r p q"), read_deed("mix r q"), read_deed("row r a (b)>")]
+    ['put r p - q', ('join', 'r', ('p', 'q')), ('mix', 'r', ('q',)), ('row', 'r', ('join', ('a', ('right', 'b'))))]
+    >>> after(FIRST, ("right", "r", "s"))
+    raises UnknownName(name='s')
+    >>> after(FIRST, ("put", "r", "p", (0,), "q"))
+    raises BadDeed()
+
+    >>> from everrows.house import House
+    >>> HOUSE = House()
+    >>> [HOUSE.do(("row", "p", "a")), HOUSE.do(("reader", "s", SEES)), HOUSE.branch("side"), HOUSE.do(("row", "p", "b"))]
+    [1, 2, None, 3]
+    >>> [HOUSE.keep("k", ("answer", "s", "p")), HOUSE.undo(), HOUSE.today("k"), HOUSE.paper("k"), HOUSE.redo(), HOUSE.today("k")]
+    [0, 2, ('answer', 1), (('answer', 's', 'p'), 0, 3), 3, None]
+    >>> [HOUSE.go("side"), HOUSE.do(("left", "q", "p")), HOUSE.go("main"), HOUSE.common(3, 4), HOUSE.merge("side"), HOUSE.elders(5)]
+    [2, 4, 3, 2, 5, (3, 4)]
+    >>> [HOUSE.shelf()["p"], HOUSE.shelf()["q"], HOUSE.ask(("compare", "q", "q"))[0], HOUSE.present(), HOUSE.branches()]
+    [('row', 'b'), ('row', ('left', 'a')), 'one', 'main', ['main', 'side']]
+    >>> HOUSE.ask(("answer", "p", "s"))
+    raises BadDeed()
+
+    >>> from everrows.console import Console
+    >>> CONSOLE = Console()
+    >>> [CONSOLE.say("row p a (a b)>"), CONSOLE.say("left q p"), CONSOLE.say("show q"), CONSOLE.say("ahead p 1.1.0"), CONSOLE.say("behind p 0"), CONSOLE.say("ahead p 0")]
+    ['1', '2', '<(a (a b)>)', 'a a b', '(a b)>', 'none']
+    >>> [CONSOLE.say("reader s a1,b0 01/11 01 01 011 1"), CONSOLE.say("answer s q"), CONSOLE.say("keep k compare p q"), CONSOLE.say("today k"), CONSOLE.say("show")]
+    ['3', '1 yes', 'differ', 'right', 'p q s']
+    >>> [CONSOLE.say("letter p 0"), CONSOLE.say("letter p 0.0"), CONSOLE.say("form p"), CONSOLE.say("undo"), CONSOLE.say("always s"), CONSOLE.say("stay")]
+    ['a', 'refused', '{a (a b)>}', '2', 'refused', 'what']
 '''
 
 MARK = "    >>> "
@@ -309,7 +359,7 @@ class Examples(unittest.TestCase):
             else:
                 exec(line[len(MARK):], names)
         self.assertEqual(looked_at, len([line for line in lines if line.startswith("    ") and not line.startswith(MARK)]))
-        self.assertGreater(looked_at, 35)
+        self.assertGreater(looked_at, 110)
 
     def test_those_of_the_readme(self):
         readme = pathlib.Path(__file__).resolve().parent.parent / "README.md"

@@ -54,6 +54,20 @@ INTERFACE = {
                "pieces_within(reader, one, other)", "common_pieces(reader, one, other)"],
     "sorts": ["sorts_of_row(row)", "by_sort(reader, sort, s)", "judge_by_sort(reader, sort, s, value)", "sorts_of(reader)",
               "same_by_sort(one, other, sort)", "judge_same(one, other, sort, value)"],
+    "made": ["has_letter(letters, c)", "begins_with(letters, c)", "ends_with(letters, c)", "has_first(letters)", "has_last(letters)",
+             "neighbours(letters, c, d)", "count_to(letters, c, n)", "none_near(letters)", "negated(reader)",
+             "beside(one, other, word)"],
+    "exchanged": ["turned_row(row)", "turned(reader)", "replaced_row(row, rows)", "replaced(reader, rows)"],
+    "deeds": ["is_thing(value)", "thing_text(thing)", "after(shelf, deed)", "deed_text(deed)", "read_deed(text)"],
+    "house": ["House"],
+    "console": ["Console"],
+}
+
+# The methods of the classes of the interface, each in the class itself.
+METHODS = {
+    "House": """number() shelf() shelf_at(number) elders(number) branches() present() do(deed) undo() redo() branch(name) go(name)
+        merge(name) common(one,other) ask(question) keep(label,question) labels() paper(label) today(label)""",
+    "Console": "house() say(line)",
 }
 
 ALLOWED_BUILTINS = set("""len range enumerate zip min max sum abs sorted reversed int str bool list tuple dict set isinstance
@@ -66,6 +80,10 @@ BARRED_NAMES = set("""register mro elements open input law version_info with_tra
     setattr type vars sys""".split())
 ITERATORS = {"list", "tuple", "dict", "sorted", "sum", "any", "all", "enumerate", "zip", "min", "max"}
 PLAIN_DUNDERS = {"__init__", "__eq__", "__repr__", "__str__", "__len__"}
+
+
+OWN_METHODS = {part.name for tree in TREES.values() for node in tree.body if isinstance(node, ast.ClassDef)
+               for part in node.body if isinstance(part, ast.FunctionDef)}
 
 
 def walk(tree):
@@ -156,6 +174,13 @@ class Files(unittest.TestCase):
             for call in calls:
                 self.assertEqual(told.get(call.partition("(")[0]), call)
 
+    def test_every_method_of_the_interface_is_defined_in_its_class(self):
+        for stem in ("house", "console"):
+            for node in [node for node in TREES[stem].body if isinstance(node, ast.ClassDef)]:
+                told = [f"{part.name}({','.join(arg.arg for arg in part.args.args[1:])})" for part in node.body if isinstance(part, ast.FunctionDef)]
+                self.assertEqual([call for call in METHODS[node.name].split() if call not in told], [])
+                self.assertEqual([part for part in told if not part.startswith("_") and part not in METHODS[node.name].split()], [])
+
     def test_names(self):
         for _, _, tree in self.each():
             held = {alias.name for node in tree.body if isinstance(node, ast.ImportFrom) for alias in node.names}
@@ -211,7 +236,7 @@ class Files(unittest.TestCase):
                 if not isinstance(node, ast.Call):
                     continue
                 if isinstance(node.func, ast.Attribute):
-                    self.assertIn(node.func.attr, ALLOWED_METHODS)
+                    self.assertIn(node.func.attr, ALLOWED_METHODS | OWN_METHODS)
                     self.assertEqual(node.keywords, [])
                 name = node.func.id if isinstance(node.func, ast.Name) else ""
                 if name in ("zip", "enumerate", "reversed", "range"):
