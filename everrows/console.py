@@ -72,8 +72,8 @@ class Console:
         """The answer to a question that was told something."""
         if question[0] != "answer":
             return told[0]
-        _, (_, _, yes) = self._house.shelf()[question[1]]
-        return f"{told} yes" if told in yes else f"{told} no"
+        _, reader = self._house.shelf()[question[1]]
+        return f"{told} yes" if told in reader[2] else f"{told} no"
 
     def _move(self, word, parts):
         """Does what brings the house to another moment, or what may."""

@@ -191,7 +191,7 @@ def _words_of(kind, part):
 def read_deed(text):
     """The deed whose text any value is; BadText(0) if there is none."""
     deed = _read(text) if isinstance(text, str) else None
-    if deed is None or not _is_deed(deed) or not all(is_name(name) for name in _names_in(deed)):
+    if not _is_deed(deed) or not all(is_name(name) for name in _names_in(deed)):
         raise BadText(0)
     return deed
 

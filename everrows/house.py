@@ -163,7 +163,7 @@ class House:
 
 
 def _merged(base, mine, others):
-    """My shelf with all that is changed in the other one as it is there; raises what [10.4] tells of two shelves."""
+    """My shelf with all that is changed in the others as it is there; raises Clash(names), or TooMany()."""
     changed = _changed(base, others)
     clashing = [name for name in _changed(base, mine) if name in changed and mine.get(name) != others.get(name)]
     if clashing:

@@ -28,7 +28,7 @@ def ends_with(letters, c):
 
 def has_first(letters):
     """A reader that says yes to rows with a first place."""
-    return _reader(letters, _table_of_beginnings(2), lambda _: 1, (1,))
+    return _reader(letters, _table_of_beginnings(2), lambda letter: 1, (1,))
 
 
 def has_last(letters):
@@ -52,7 +52,7 @@ def count_to(letters, c, n):
 
 def none_near(letters):
     """A reader that says yes to rows in which between any two places there is another one."""
-    return _reader(letters, _table_of_meetings(), lambda _: 3, (0, 1, 2, 3))
+    return _reader(letters, _table_of_meetings(), lambda letter: 3, (0, 1, 2, 3))
 
 
 def _reader(letters, table, answer_of, yes):

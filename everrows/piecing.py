@@ -50,11 +50,12 @@ def _triple_of_right(whole, x, triple, many):
     begun, ended, inside = triple
     behind = whole[1]
     ends = [([], [whole], [])] + [([u], [e, whole], []) for u, e, _ in ended]
+    longer = [([u], [e] + [x] * k + [b], [v, behind])
+              for k in range(many + 1) for u, e, _ in ended for _, b, v in begun]
     return (
-        [([], [whole], [])] + [([], [*[x] * k, b], [v, behind]) for k in range(many + 1) for _, b, v in begun],
+        [([], [whole], [])] + [([], [x] * k + [b], [v, behind]) for k in range(many + 1) for _, b, v in begun],
         ends,
-        [([u], [i], [v, behind]) for u, i, v in inside] + [([u], [e, *[x] * k, b], [v, behind])
-         for k in range(many + 1) for u, e, _ in ended for _, b, v in begun] + ends,
+        [([u], [i], [v, behind]) for u, i, v in inside] + longer + ends,
     )
 
 
@@ -62,11 +63,12 @@ def _triple_of_left(whole, x, triple, many):
     begun, ended, inside = triple
     ahead = whole[1]
     beginnings = [([], [whole], [])] + [([], [whole, b], [v]) for _, b, v in begun]
+    longer = [([ahead, u], [e] + [x] * k + [b], [v])
+              for k in range(many + 1) for u, e, _ in ended for _, b, v in begun]
     return (
         beginnings,
-        [([], [whole], [])] + [([ahead, u], [e, *[x] * k], []) for k in range(many + 1) for u, e, _ in ended],
-        [([ahead, u], [i], [v]) for u, i, v in inside] + [([ahead, u], [e, *[x] * k, b], [v])
-         for k in range(many + 1) for u, e, _ in ended for _, b, v in begun] + beginnings,
+        [([], [whole], [])] + [([ahead, u], [e] + [x] * k, []) for k in range(many + 1) for u, e, _ in ended],
+        [([ahead, u], [i], [v]) for u, i, v in inside] + longer + beginnings,
     )
 
 

@@ -19,7 +19,10 @@ KINDS = {
 
 
 def things_asked(shelf, question):
-    """The list of the rows and readers of a shelf that a question, any value, names; raises what [10.5] tells."""
+    """The list of the rows and readers that a question, any value, names.
+
+    Raises BadDeed() for what is no question, BadName(name), UnknownName(name), or BadDeed() for things of other kinds.
+    """
     if not isinstance(question, tuple) or len(question) == 0 or question[0] not in list(KINDS):
         raise BadDeed()
     word, *names = question
@@ -42,7 +45,7 @@ def _go_together(word, told):
 
 
 def answer_to(shelf, question):
-    """What a question, any value, is told; raises what [10.5] tells."""
+    """What a question, any value, is told; raises what things_asked does."""
     told = things_asked(shelf, question)
     word = question[0]
     if word == "answer":
@@ -56,7 +59,7 @@ def answer_to(shelf, question):
 
 
 def judged(shelf, question, told):
-    """None if what a question was told is still right, else the first fault; raises what [10.5] tells."""
+    """None if what a question was told is still right, else the first fault; raises what things_asked does."""
     things = things_asked(shelf, question)
     word = question[0]
     if word == "answer":

@@ -21,7 +21,7 @@ def answer_scale(reader):
 
 def edge_scale():
     """The scale whose values are pairs: whether there is a first place, whether there is a last one."""
-    return lambda _: (True, True), _edges_dealt, 1
+    return lambda letter: (True, True), _edges_dealt, 1
 
 
 def _edges_dealt(word, edges):
@@ -78,13 +78,13 @@ def _cuts_of_two(x, cuts, y, more):
 
 def _cuts_of_right(whole, x, cuts, many):
     found = [([x] * k, [whole]) for k in range(1, many + 1)]
-    found.extend([([*[x] * k, p], [q, whole]) for k in range(many + 1) for p, q in cuts])
+    found.extend([([x] * k + [p], [q, whole]) for k in range(many + 1) for p, q in cuts])
     return found
 
 
 def _cuts_of_left(whole, x, cuts, many):
     found = [([whole], [x] * k) for k in range(1, many + 1)]
-    found.extend([([whole, p], [q, *[x] * k]) for k in range(many + 1) for p, q in cuts])
+    found.extend([([whole, p], [q] + [x] * k) for k in range(many + 1) for p, q in cuts])
     return found
 
 

@@ -104,7 +104,7 @@ class After(unittest.TestCase):
                 (("join", "p", ("p", "p")), ("row", join("a", "a"))), (("mix", "n", ("p",)), ("row", MIX_A)), (("mix", "q", ("q", "p", "q", "p", "p", "p")),
                  ("row", ("mix", (SHELF["q"][1], "a", SHELF["q"][1], "a", "a", "a")))), (("right", "n", "q"), ("row", ("right", SHELF["q"][1]))),
                 (("left", "q", "q"), ("row", ("left", SHELF["q"][1]))), (("put", "n", "p", (), "q"), ("row", SHELF["q"][1])),
-                (("put", "n", "q", (2, 1), "m"), ("row", put_at(SHELF["q"][1], (2, 1), MIX_A))), (("put", "n", "m", (3, 3), "p"), ("row", put_at(MIX_A, (3, 3), "a"))),
+                (("put", "n", "q", (2, 1), "m"), ("row", put_at(SHELF["q"][1], (2, 1), MIX_A))), (("put", "n", "m", (3, 3), "p"), ("row", put_at(MIX_A, (3, 3), "a"))), (("put", "n", "m", (31, 6), "p"), ("row", join(MIX_A, "a", MIX_A))),
                 (("turn", "n", "q"), ("row", turned_row(SHELF["q"][1]))), (("turn", "s", "s"), ("reader", turned(SEES))), (("least", "n", "s"), ("reader", least(SEES))),
                 (("beside", "n", "s", "and", "t"), ("reader", beside(SEES, OTHER, "and"))), (("beside", "t", "s", "or", "t"), ("reader", beside(SEES, OTHER, "or"))),
                 (("turn", "n", "big"), ("row", turned_row(GREATEST))), (("turn", "n", "deep"), ("row", turned_row(DEEP)))]:
@@ -141,6 +141,9 @@ class After(unittest.TestCase):
         for deed in (("row", "m", "a"), ("right", "m", "a"), ("mix", "m", ("a", "b"))):
             with self.assertRaises(TooMany):
                 kept(after, full, deed)
+        eleven = after(full, ("away", "c"))
+        for deed in (("row", "m", "a"), ("right", "m", "a"), ("join", "c", ("a", "b"))):
+            self.assertEqual(len(kept(after, eleven, deed)), 12)
         self.assertEqual([len(after(full, ("row", "a", "b"))), len(after(full, ("away", "a"))), after(full, ("right", "l", "a"))["l"]], [12, 11, ("row", ("right", "a"))])
         with self.assertRaises(BadDeed):
             after({**SHELF, **{name: ("row", "a") for name in "cdfg"}}, ("right", "n", "s"))

@@ -61,7 +61,9 @@ def judged_as_told(one, other, value):
 
 
 # Pairs that are not one, and the number of the first level that tells so.
+FAR = ("right", ("left", join(MIX_A, "b")))
 UNLIKE = [
+    (join(FAR, FAR), FAR, 4), (join(FAR, "b", FAR), join(FAR, FAR), 2), (join(("left", ("right", join(MIX_A, "b"))), MIX_A), ("left", ("right", join(MIX_A, "b"))), 2),
     ("a", "b", 0), (("right", "a"), ("right", "b"), 0), (MIX_A, "b", 0), (("mix", ("a", "b")), MIX_A, 0),
     ("a", ("right", "a"), 1), ("a", MIX_A, 1), (("right", "a"), ("left", "a"), 1), (join("a", "b"), join("b", "a"), 1),
     (join("a", "a"), join("a", "a", "a"), 1), (MIX_A, ("right", "a"), 1), (MIX_A, join(MIX_A, "a"), 1),
