@@ -13,7 +13,7 @@ from everrows.readers import answer
 from everrows.rows import is_row
 from everrows.sides import ahead, behind, between, laid
 from tests.cutmaking import NO_TWO_ROWS, answer_as_told, pieces_as_told
-from tests.onemaking import MIX_A, RICH, again_and_again, join, places_in_finite, size, some_rows
+from tests.onemaking import MIX_A, again_and_again, join, places_in_finite, size, some_rows
 from tests.rowmaking import ODD_VALUES, kept, nearly, random_place, random_row
 from tests.tablemaking import HAS, ONE, SEES, WIDE, random_reader
 from tests.test_cuts import some_of_both, some_readers, within
